@@ -68,7 +68,7 @@ class Shop:
 
 def _may_need(ware, thing):
     """Tell whether a thing, of any kind, is a list of needs that a make of the ware may have."""
-    if not isinstance(thing, list) or len(thing) > MOST_NEEDS:
+    if type(thing) is not list or len(thing) > MOST_NEEDS:
         return False
     barred = [ware]
     for need in thing:

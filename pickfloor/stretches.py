@@ -7,22 +7,21 @@ MOST_MAKE = 999
 
 def is_ware(thing):
     """Tell whether a thing, of any kind, is a ware."""
-    if not isinstance(thing, str) or not 1 <= len(thing) <= MOST_SIGNS:
+    # Things of derived classes are none, here and everywhere: they may answer anything, or fail,
+    # when they are measured, compared or looked up. So True and False are no makes either.
+    if type(thing) is not str or not 1 <= len(thing) <= MOST_SIGNS:
         return False
     return all("a" <= sign <= "z" for sign in thing)
 
 
 def is_make(thing):
     """Tell whether a thing, of any kind, is a make."""
-    # For Python, True and False are integers; here they are no whole numbers.
-    if not isinstance(thing, int) or isinstance(thing, bool):
-        return False
-    return within(thing, LEAST_MAKE, MOST_MAKE)
+    return type(thing) is int and within(thing, LEAST_MAKE, MOST_MAKE)
 
 
 def is_need(thing):
     """Tell whether a thing, of any kind, is a need."""
-    if not isinstance(thing, tuple) or len(thing) != 3:
+    if type(thing) is not tuple or len(thing) != 3:
         return False
     ware, low, high = thing
     return is_ware(ware) and is_make(low) and is_make(high) and low <= high

@@ -6,7 +6,7 @@ import os
 import unittest
 
 import pickfloor
-from pickfloor import shop, stretches
+from pickfloor import desk, errors, picks, reasons, settling, shop, stretches
 
 FOLDER = os.path.dirname(pickfloor.__file__)
 LIBRARY = ["collections", "heapq", "itertools", "math"]
@@ -26,24 +26,49 @@ def arguments(function):
 
 
 class Interface(unittest.TestCase):
-    def test_functions_and_their_arguments(self):
-        for name, listed in [("is_ware", ["thing"]), ("is_make", ["thing"]),
-                             ("is_need", ["thing"]), ("joined", ["one", "other"]),
-                             ("within", ["make", "low", "high"])]:
+    def assert_methods(self, kind, rows):
+        self.assertEqual(arguments(kind), [])
+        for name, listed in rows:
             with self.subTest(name=name):
-                function = getattr(stretches, name)
+                self.assertIn(name, vars(kind))
+                self.assertEqual(arguments(vars(kind)[name]), listed)
+
+    def test_functions_and_their_arguments(self):
+        for file, name, listed in [
+                (stretches, "is_ware", ["thing"]), (stretches, "is_make", ["thing"]),
+                (stretches, "is_need", ["thing"]), (stretches, "joined", ["one", "other"]),
+                (stretches, "within", ["make", "low", "high"]),
+                (picks, "agenda", ["shop", "wish", "pick"]),
+                (picks, "meets", ["shop", "wish", "pick"]),
+                (picks, "newer", ["shop", "wish", "one", "other"]),
+                (reasons, "holds", ["shop", "wish", "pairs", "thing"]),
+                (settling, "settle", ["shop", "wish"])]:
+            with self.subTest(name=name):
+                function = getattr(file, name)
                 self.assertEqual(arguments(function), listed)
-                self.assertEqual(function.__module__, "pickfloor.stretches")
+                self.assertEqual(function.__module__, file.__name__)
+
+    def test_numbers(self):
+        for file, name, number in [
+                (stretches, "MOST_MAKE", 999), (shop, "MOST_WARES", 12), (shop, "MOST_MAKES", 8),
+                (shop, "MOST_NEEDS", 6), (picks, "MOST_WISHES", 8)]:
+            with self.subTest(name=name):
+                self.assertEqual(getattr(file, name), number)
+                self.assertIs(type(getattr(file, name)), int)
+
+    def test_classes_are_defined_in_their_files(self):
+        self.assertEqual(shop.Shop.__module__, "pickfloor.shop")
+        self.assertEqual(desk.Desk.__module__, "pickfloor.desk")
+        self.assertEqual(errors.PickError.__module__, "pickfloor.errors")
 
     def test_a_shop_defines_its_methods_itself(self):
-        self.assertEqual(shop.Shop.__module__, "pickfloor.shop")
-        self.assertEqual(arguments(shop.Shop), [])
-        for name, listed in [("put", ["self", "ware", "make", "needs"]),
-                             ("take", ["self", "ware", "make"]), ("makes", ["self", "ware"]),
-                             ("needs", ["self", "ware", "make"]), ("wares", ["self"])]:
-            with self.subTest(name=name):
-                self.assertIn(name, vars(shop.Shop))
-                self.assertEqual(arguments(vars(shop.Shop)[name]), listed)
+        self.assert_methods(shop.Shop, [
+            ("put", ["self", "ware", "make", "needs"]), ("take", ["self", "ware", "make"]),
+            ("makes", ["self", "ware"]), ("needs", ["self", "ware", "make"]), ("wares", ["self"])])
+
+    def test_a_desk_defines_its_methods_itself(self):
+        self.assert_methods(desk.Desk, [
+            ("say", ["self", "line"]), ("held", ["self"]), ("wishes", ["self"])])
 
     def test_arguments_by_their_names(self):
         made = shop.Shop()
@@ -56,6 +81,17 @@ class Interface(unittest.TestCase):
         self.assertIs(stretches.is_need(thing=("nut", 1, 2)), True)
         self.assertEqual(stretches.joined(one=(1, 5), other=(5, 9)), (5, 5))
         self.assertIs(stretches.within(make=5, low=5, high=9), True)
+
+    def test_arguments_by_their_names_of_picks_and_reasons(self):
+        made, wish, pick = shop.Shop(), [("nut", 1, 2)], {"nut": 1}
+        made.put("nut", 1, [])
+        self.assertEqual(picks.agenda(pick=pick, wish=wish, shop=made), ["nut"])
+        self.assertIs(picks.meets(pick=pick, wish=wish, shop=made), True)
+        self.assertIs(picks.newer(other=pick, one=pick, wish=wish, shop=made), False)
+        thing = ("nut", [("wish", 0)], [])
+        self.assertIs(reasons.holds(thing=thing, pairs=[], wish=wish, shop=made), False)
+        self.assertEqual(settling.settle(wish=wish, shop=made), ("pick", [("nut", 1)], [[]]))
+        self.assertEqual(desk.Desk().say(line="forget"), "done")
 
 
 class Files(unittest.TestCase):
